@@ -1,0 +1,102 @@
+"""What several tests use: outcomes of calls, examples as the document writes them."""
+
+import copy
+import itertools
+import os
+
+from tornreads import errors
+
+EXAMPLES = os.path.join(os.path.dirname(os.path.abspath(__file__)), "examples")
+
+# Values of every kind that may be handed in as "any value".
+ODD_VALUES = (
+    None, True, False, 0, 1, -1, 5, 10 ** 399, "", "x", "0", "1:2", "a\nb", (), (()), ((),), [], [1, 2], [(0,)],
+    {}, {"a": 1}, {(1, 2): [3]}, (None,), (True,), (False,), ("0",), ([0],), ((0,),), ({},), (1, "x"), (-5, 10 ** 300),
+)
+
+
+def outcome(function, *places, **names):
+    """What a call comes to, so that 1 and True, (1,) and [1] are unlike: the kind, and what is told."""
+    try:
+        return "returns", repr(function(*places, **names))
+    except errors.TornError as error:
+        return "raises", error.__class__.__name__ + repr(sorted(vars(error).items()))
+
+
+def raised(error):
+    """The outcome of a call that raises error."""
+    return "raises", error.__class__.__name__ + repr(sorted(vars(error).items()))
+
+
+def returned(value):
+    """The outcome of a call that returns value."""
+    return "returns", repr(value)
+
+
+def check_calls(case, function, names, calls):
+    """Each call tells the same by place, by name, and again, and changes nothing that it is handed."""
+    for call in calls:
+        with case.subTest(function=function.__name__, call=call):
+            before = repr(copy.deepcopy(call))
+            by_place = outcome(function, *call)
+            by_name = dict(zip(names, call))
+            turned = dict(reversed(list(by_name.items())))
+            case.assertEqual(len(names), len(call))
+            case.assertEqual(outcome(function, **by_name), by_place)
+            case.assertEqual(outcome(function, **turned), by_place)
+            case.assertEqual(outcome(function, call[0], **{name: by_name[name] for name in names[1:]}), by_place)
+            case.assertEqual(outcome(function, *call), by_place)
+            case.assertEqual(outcome(function, *copy.deepcopy(call)), by_place)
+            case.assertEqual(repr(call), before)
+
+
+def run_examples(file, names):
+    """Runs the examples of a file in names; yields (line, what came, what should have come)."""
+    with open(os.path.join(EXAMPLES, file), encoding="ascii") as text:
+        lines = text.read().splitlines()
+    for line, after in zip(lines, lines[1:] + [">>> "]):
+        if not line.startswith(">>> "):
+            continue
+        if after.startswith(">>> "):
+            exec(line[4:], names)
+        elif after.startswith("raises "):
+            yield line, outcome(eval, line[4:], names), raised(eval(after[7:], vars(errors)))
+        else:
+            yield line, outcome(eval, line[4:], names), ("returns", after)
+
+
+def changed_texts(text, signs):
+    """All texts that come of text by one sign left out, doubled, put in, or exchanged, and text cut short."""
+    changed = [text[:at] for at in range(len(text))]
+    for at in range(len(text)):
+        changed.append(text[:at] + text[at + 1:])
+        changed.append(text[:at] + text[at] + text[at:])
+        changed.extend([text[:at] + sign + text[at + 1:] for sign in signs])
+    for at in range(len(text) + 1):
+        changed.extend([text[:at] + sign + text[at:] for sign in signs])
+    return changed
+
+
+def all_lots(counter):
+    """All lots of counter."""
+    places = range(len(counter))
+    return [lot for many in range(1, len(counter) + 1) for lot in itertools.combinations(places, many)]
+
+
+def all_sights(counter, lot):
+    """All sights of lot."""
+    return list(itertools.product(*[range(counter[place]) for place in lot]))
+
+
+def plain_digits(counter):
+    """The digits of all values of counter, ascending, by counting and carrying alone."""
+    every = itertools.product(*[range(base) for base in reversed(counter)])
+    return [tuple(reversed(digits)) for digits in every]
+
+
+def plain_showing(counter, lot, sight):
+    """All values that show sight, ascending, by going through all values."""
+    return [
+        number for number, digits in enumerate(plain_digits(counter))
+        if tuple([digits[place] for place in lot]) == sight
+    ]

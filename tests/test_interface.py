@@ -1,0 +1,48 @@
+"""The interface: each name in its file, with its arguments by the names that the document tells."""
+
+import importlib
+import inspect
+import unittest
+
+BOUNDS = {
+    "MAX_PLACES": 12, "MAX_BASE": 1000000, "MAX_READS": 40, "MAX_READINGS": 12, "MAX_CELLS": 8, "MAX_SIGN": 199,
+    "MAX_STATES": 200, "MAX_SEARCH": 24, "MAX_CLOCK": 60, "MAX_SIZE": 10, "MAX_VALUE": 1000000000000,
+    "MAX_NODES": 60, "MAX_LOOKS": 8, "MAX_EDITS": 60, "MAX_LETTERS": 8,
+}
+
+HEADS = {
+    "counters": (
+        "counter_error(value)", "size_of(counter)", "weight_of(counter, place)", "digits_of(counter, number)",
+        "value_of(counter, digits)", "lot_error(counter, value)", "sight_of(counter, lot, number)",
+        "sight_error(counter, lot, value)",
+    ),
+    "countertexts": (
+        "counter_text(counter)", "read_counter(value)", "value_text(counter, number)", "read_value(counter, value)",
+    ),
+}
+
+
+class InterfaceTest(unittest.TestCase):
+
+    def test_bounds(self):
+        module = importlib.import_module("tornreads.bounds")
+        for name, bound in BOUNDS.items():
+            with self.subTest(name=name):
+                self.assertIs(type(getattr(module, name)), int)
+                self.assertEqual(getattr(module, name), bound)
+
+    def test_heads(self):
+        for file, heads in HEADS.items():
+            module = importlib.import_module("tornreads." + file)
+            for head in heads:
+                with self.subTest(file=file, head=head):
+                    name = head[:head.index("(")]
+                    function = getattr(module, name)
+                    self.assertTrue(inspect.isfunction(function))
+                    self.assertEqual(function.__name__, name)
+                    self.assertEqual(function.__module__, "tornreads." + file)
+                    self.assertEqual(name + str(inspect.signature(function)), head)
+
+
+if __name__ == "__main__":
+    unittest.main()

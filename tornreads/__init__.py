@@ -1,0 +1,1 @@
+"""Tornreads: what is read of a thing that goes on."""
