@@ -100,3 +100,85 @@ def plain_showing(counter, lot, sight):
         number for number, digits in enumerate(plain_digits(counter))
         if tuple([digits[place] for place in lot]) == sight
     ]
+
+
+def plain_count(counter, lot, sight, limit):
+    """How many values below limit show sight: those that part from limit at each place, from the greatest one down."""
+    told = dict(zip(lot, sight))
+    ways = [1]
+    for place, base in enumerate(counter):
+        ways.append(ways[-1] * (1 if place in told else base))
+    if limit >= plain_size(counter):
+        return ways[-1]
+    count = 0
+    left = limit
+    for place in range(len(counter) - 1, -1, -1):
+        weight = plain_size(counter[:place])
+        due = left // weight
+        left -= due * weight
+        if place not in told:
+            count += due * ways[place]
+            continue
+        if told[place] < due:
+            count += ways[place]
+        if told[place] != due:
+            return count
+    return count
+
+
+def plain_size(counter):
+    """The product of the bases."""
+    size = 1
+    for base in counter:
+        size = size * base
+    return size
+
+
+def plain_nth(counter, lot, sight, number):
+    """The value that shows sight with just number ones below it, None if there is none: found by halving."""
+    if number < 0 or number >= plain_count(counter, lot, sight, plain_size(counter)):
+        return None
+    least, greatest = 0, plain_size(counter) - 1
+    while least < greatest:
+        middle = (least + greatest) // 2
+        if plain_count(counter, lot, sight, middle + 1) > number:
+            greatest = middle
+        else:
+            least = middle + 1
+    return least
+
+
+def plain_ahead(counter, lot, sight, start):
+    """What ahead_from has to come to, found by counting."""
+    return plain_nth(counter, lot, sight, plain_count(counter, lot, sight, start))
+
+
+def plain_back(counter, lot, sight, start):
+    """What back_to has to come to, found by counting."""
+    return plain_nth(counter, lot, sight, plain_count(counter, lot, sight, start + 1) - 1)
+
+
+def rows_up_to(counter, many):
+    """All rows of counter with up to so many reads."""
+    lots = all_lots(counter)
+    return [row for reads in range(1, many + 1) for row in itertools.product(lots, repeat=reads)]
+
+
+def all_words(counter, row):
+    """All words of row."""
+    return list(itertools.product(*[all_sights(counter, lot) for lot in row]))
+
+
+def all_runs(counter, row):
+    """All runs of row."""
+    return list(itertools.combinations_with_replacement(range(plain_size(counter)), len(row)))
+
+
+def runs_by_word(counter, row):
+    """For each word that some run of row reads all runs that read it."""
+    every = plain_digits(counter)
+    found = {}
+    for run in all_runs(counter, row):
+        word = tuple([tuple([every[number][place] for place in lot]) for lot, number in zip(row, run)])
+        found.setdefault(word, []).append(run)
+    return found

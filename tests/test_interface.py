@@ -19,6 +19,19 @@ HEADS = {
     "countertexts": (
         "counter_text(counter)", "read_counter(value)", "value_text(counter, number)", "read_value(counter, value)",
     ),
+    "going": (
+        "ahead_from(counter, lot, sight, start)", "back_to(counter, lot, sight, start)",
+        "how_many(counter, lot, sight, limit)", "nth_of(counter, lot, sight, number)",
+    ),
+    "rows": ("row_error(counter, value)", "word_error(counter, row, value)", "run_error(counter, row, value)"),
+    "runs": (
+        "word_of(counter, row, run)", "stuck_at(counter, row, word)", "least_run(counter, row, word)",
+        "greatest_run(counter, row, word)",
+    ),
+    "sureness": (
+        "window_of(counter, row, word)", "sure_of(counter, row, word)", "two_apart(counter, row, word)",
+        "stood_at(counter, row, word, number)",
+    ),
 }
 
 
