@@ -182,3 +182,33 @@ def runs_by_word(counter, row):
         word = tuple([tuple([every[number][place] for place in lot]) for lot, number in zip(row, run)])
         found.setdefault(word, []).append(run)
     return found
+
+
+def plain_rungs(counter, way):
+    """The rungs of way, as the document tells them."""
+    m = len(counter)
+    down = [m - 1 - k for k in range(m)]
+    return {"down": down, "up": list(range(m)), "mirror": down + list(range(1, m))}[way]
+
+
+def plain_ladders(counter, row, way):
+    """All ladders of way, by going through all tuples of read numbers that never fall."""
+    rungs = plain_rungs(counter, way)
+    reads = itertools.combinations_with_replacement(range(len(row)), len(rungs))
+    return [ladder for ladder in reads if all(place in row[read] for place, read in zip(rungs, ladder))]
+
+
+def plain_has(counter, row, want):
+    """Whether row has want."""
+    if want == "both":
+        return plain_has(counter, row, "down") and plain_has(counter, row, "up")
+    return plain_ladders(counter, row, want) != []
+
+
+def plain_told(counter, word, row):
+    """The value that word tells, None if its digits do not agree or do not tell all places."""
+    told = [{digit for lot, sight in zip(row, word) for at, digit in zip(lot, sight) if at == place}
+            for place in range(len(counter))]
+    if any(len(digits) != 1 for digits in told):
+        return None
+    return sum(digits.pop() * plain_size(counter[:place]) for place, digits in enumerate(told))

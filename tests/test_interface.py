@@ -32,6 +32,19 @@ HEADS = {
         "window_of(counter, row, word)", "sure_of(counter, row, word)", "two_apart(counter, row, word)",
         "stood_at(counter, row, word, number)",
     ),
+    "telling": ("is_full(counter, row)", "is_agreed(counter, row, word)", "told_by(counter, row, word)"),
+    "ladders": ("ladder_error(counter, row, way, value)", "ladder_of(counter, row, way)"),
+    "excess": (
+        "missed_places(counter, row, way)", "worst_beyond(counter, row)", "worst_short(counter, row)",
+        "beyond_run(counter, row)", "short_run(counter, row)",
+    ),
+    "always": (
+        "always_sure(counter, row)", "lost_word(counter, row)", "settled_value(counter, first, second)",
+    ),
+    "mending": (
+        "puts_error(counter, row, value)", "put_in(counter, row, puts)", "fewest_puts(counter, row, want)",
+        "puts_for(counter, row, want)",
+    ),
 }
 
 
