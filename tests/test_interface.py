@@ -45,6 +45,20 @@ HEADS = {
         "puts_error(counter, row, value)", "put_in(counter, row, puts)", "fewest_puts(counter, row, want)",
         "puts_for(counter, row, want)",
     ),
+    "keeping": (
+        "fewest_kept(counter, row, want)", "part_for(counter, row, want)", "fewest_lots(counter, most, want)",
+        "lots_for(counter, most, want)",
+    ),
+    "readings": (
+        "log_error(counter, value)", "joined_log(counter, log)", "log_windows(counter, log)",
+        "log_sures(counter, log)", "now_of(counter, log)", "most_gone(counter, log, first, second)",
+    ),
+    "tables": ("table_error(value)", "looks_error(table, value)"),
+    "tableruns": (
+        "states_error(table, speed, looks, value)", "table_word(table, looks, states)",
+        "least_states(table, speed, looks, word)", "greatest_states(table, speed, looks, word)",
+        "table_sure(table, speed, looks, word)", "table_apart(table, speed, looks, word)",
+    ),
 }
 
 
