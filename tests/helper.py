@@ -13,6 +13,16 @@ ODD_VALUES = (
     None, True, False, 0, 1, -1, 5, 10 ** 399, "", "x", "0", "1:2", "a\nb", (), (()), ((),), [], [1, 2], [(0,)],
     {}, {"a": 1}, {(1, 2): [3]}, (None,), (True,), (False,), ("0",), ([0],), ((0,),), ({},), (1, "x"), (-5, 10 ** 300),
 )
+RING = (((0, 0), (1, 0), (1, 1), (0, 1), (0, 0)), (0, 1, 2, 3, 4))
+STILL = (((0,), (1,), (1,), (2,)), (10, 10, 15, 15))
+# Words and values that stand several times, values that stand still, one cell and more.
+TABLES = (
+    RING, STILL, (RING[0][:4], RING[1][:4]), (((0, 0),), (7,)), (((3,),) * 4, (1, 1, 2, 9)),
+    (((0, 1), (1, 0), (0, 1), (1, 0), (1, 1), (0, 0)), (-5, -5, 0, 0, 0, 8)),
+    (((0, 0, 0), (1, 0, 0), (0, 1, 0), (1, 1, 0), (0, 0, 1), (199, 0, 1)), (-10 ** 12, -1, 0, 1, 1, 10 ** 12)),
+    (((0, 0), (1, 0), (2, 0), (0, 1), (1, 1), (2, 1)), (0, 1, 2, 3, 4, 5)),
+)
+SPEEDS = (None, 0, 1, 2, 3, 200)
 
 
 def outcome(function, *places, **names):
@@ -212,3 +222,63 @@ def plain_told(counter, word, row):
     if any(len(digits) != 1 for digits in told):
         return None
     return sum(digits.pop() * plain_size(counter[:place]) for place, digits in enumerate(told))
+
+
+def all_looks(table, many):
+    """All looks at the cells of table, up to so many, at one cell or at all cells or at the first two."""
+    cells = range(len(table[0][0]))
+    lots = sorted({(cell,) for cell in cells} | {tuple(cells)} | {tuple(cells)[:2]})
+    return [looks for looks_many in range(1, many + 1) for looks in itertools.product(lots, repeat=looks_many)]
+
+
+def plain_states(table, speed, many):
+    """All runs of so many looks, by going through all tuples of states."""
+    return [
+        run for run in itertools.combinations_with_replacement(range(len(table[0])), many)
+        if speed is None or all(after - before <= speed for before, after in zip(run, run[1:]))
+    ]
+
+
+def plain_word(table, looks, run):
+    """The word that run reads."""
+    return tuple([tuple([table[0][state][cell] for cell in lot]) for lot, state in zip(looks, run)])
+
+
+def read_words(table, speed, looks):
+    """For each word that some run reads all runs that read it."""
+    found = {}
+    for run in plain_states(table, speed, len(looks)):
+        found.setdefault(plain_word(table, looks, run), []).append(run)
+    return found
+
+
+def clock_runs(sizes, clock):
+    """For each word that some run through clock reads all runs that read it."""
+    found = {}
+    for run in itertools.combinations_with_replacement(range(len(clock)), len(sizes)):
+        found.setdefault(tuple([clock[state][cell] for cell, state in enumerate(run)]), []).append(run)
+    return found
+
+
+def is_torn(found):
+    """Whether two runs that read one word are apart, told all runs of each word."""
+    return any(min(run[-1] for run in runs) < max(run[0] for run in runs) for runs in found.values())
+
+
+def plain_torn(clock):
+    """Whether a clock is torn, by all cuts of its states: a word that is read ahead of the cut, and behind it."""
+    cells = range(len(clock[0]))
+    for cut in range(1, len(clock)):
+        met = {(0, cut)}
+        for cell in cells:
+            behind = set()
+            for one, other in met:
+                for sign in {clock[state][cell] for state in range(one, cut)}:
+                    near = [state for state in range(one, cut) if clock[state][cell] == sign]
+                    far = [state for state in range(other, len(clock)) if clock[state][cell] == sign]
+                    if far:
+                        behind.add((near[0], far[0]))
+            met = behind
+        if met:
+            return True
+    return False

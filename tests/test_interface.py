@@ -59,6 +59,13 @@ HEADS = {
         "least_states(table, speed, looks, word)", "greatest_states(table, speed, looks, word)",
         "table_sure(table, speed, looks, word)", "table_apart(table, speed, looks, word)",
     ),
+    "lostwords": ("lost_in(table, speed, looks)",),
+    "carrying": ("counter_table(counter)", "carried_table(counter, way, elder)"),
+    "clocks": (
+        "sizes_error(value)", "clock_error(sizes, value)", "cut_bound(sizes)", "torn_word(sizes, clock)",
+        "clock_sure(sizes, clock, word)",
+    ),
+    "nesting": ("nested_clock(sizes)",),
 }
 
 

@@ -5,7 +5,8 @@ import random
 import unittest
 
 from tests.helper import (
-    ODD_VALUES, check_calls, outcome, plain_digits, plain_size, raised, returned, runs_by_word,
+    ODD_VALUES, RING, SPEEDS, STILL, TABLES, all_looks, check_calls, outcome, plain_digits, plain_size, plain_states,
+    plain_word, raised, read_words, returned, runs_by_word,
 )
 from tornreads.counters import lot_error
 from tornreads.errors import NoRun
@@ -14,45 +15,8 @@ from tornreads.sureness import sure_of
 from tornreads.tableruns import greatest_states, least_states, states_error, table_apart, table_sure, table_word
 from tornreads.tables import looks_error, table_error
 
-RING = (((0, 0), (1, 0), (1, 1), (0, 1), (0, 0)), (0, 1, 2, 3, 4))
-STILL = (((0,), (1,), (1,), (2,)), (10, 10, 15, 15))
 ACROSS = ((0,), (1,))
 ODD_ITEMS = (-1, True, False, None, "0", (0,), [0], {}, 10 ** 399, -10 ** 399)
-# Words and values that stand several times, values that stand still, one cell and more.
-TABLES = (
-    RING, STILL, (RING[0][:4], RING[1][:4]), (((0, 0),), (7,)), (((3,),) * 4, (1, 1, 2, 9)),
-    (((0, 1), (1, 0), (0, 1), (1, 0), (1, 1), (0, 0)), (-5, -5, 0, 0, 0, 8)),
-    (((0, 0, 0), (1, 0, 0), (0, 1, 0), (1, 1, 0), (0, 0, 1), (199, 0, 1)), (-10 ** 12, -1, 0, 1, 1, 10 ** 12)),
-    (((0, 0), (1, 0), (2, 0), (0, 1), (1, 1), (2, 1)), (0, 1, 2, 3, 4, 5)),
-)
-SPEEDS = (None, 0, 1, 2, 3, 200)
-
-
-def all_looks(table, many):
-    """All looks at the cells of table, up to so many, at one cell or at all cells or at the first two."""
-    cells = range(len(table[0][0]))
-    lots = sorted({(cell,) for cell in cells} | {tuple(cells)} | {tuple(cells)[:2]})
-    return [looks for looks_many in range(1, many + 1) for looks in itertools.product(lots, repeat=looks_many)]
-
-
-def plain_runs(table, speed, many):
-    """All runs of so many looks, by going through all tuples of states."""
-    return [
-        run for run in itertools.combinations_with_replacement(range(len(table[0])), many)
-        if speed is None or all(after - before <= speed for before, after in zip(run, run[1:]))
-    ]
-
-
-def plain_word(table, looks, run):
-    return tuple([tuple([table[0][state][cell] for cell in lot]) for lot, state in zip(looks, run)])
-
-
-def read_words(table, speed, looks):
-    """For each word that some run reads all runs that read it."""
-    found = {}
-    for run in plain_runs(table, speed, len(looks)):
-        found.setdefault(plain_word(table, looks, run), []).append(run)
-    return found
 
 
 def unread_words(table, looks):
@@ -214,7 +178,7 @@ class StatesErrorTest(unittest.TestCase):
     def test_beside_all_runs(self):
         for speed in SPEEDS:
             for looks in (((0,),), ACROSS, ACROSS + ((0, 1),)):
-                runs = plain_runs(RING, speed, len(looks))
+                runs = plain_states(RING, speed, len(looks))
                 for value in itertools.product(range(-1, 6), repeat=len(looks)):
                     right = outcome(states_error, RING, speed, looks, value) == returned(None)
                     self.assertEqual(right, value in runs, (speed, value))
