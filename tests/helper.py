@@ -282,3 +282,33 @@ def plain_torn(clock):
         if met:
             return True
     return False
+
+
+def random_reader(pick, table, deep):
+    """A reader over table of at most so many looks in a row, whose leaves tell values at and beside those of states."""
+    reader = random_node(pick, table, deep)
+    return reader if many_nodes(reader) <= 60 else random_reader(pick, table, deep)
+
+
+def many_nodes(node):
+    """How many nodes a right reader has."""
+    return 1 if node[0] != "look" else 1 + sum(many_nodes(below) for _, below in node[2])
+
+
+def random_node(pick, table, deep):
+    """A look of which at most so many stand in a row, itself among them."""
+    words, values = table
+    cells = range(len(words[0]))
+    lot = tuple(sorted(pick.sample(cells, pick.randrange(1, len(cells) + 1))))
+    shown = {tuple([word[cell] for cell in lot]) for word in words}
+    sights = sorted({sight for sight in shown if pick.randrange(6)} | {(pick.randrange(3),) * len(lot)})
+    branches = []
+    for sight in sights:
+        if deep > 1 and pick.randrange(3):
+            branches.append((sight, random_node(pick, table, deep - 1)))
+        elif pick.randrange(5):
+            beside = pick.choice(values) + pick.choice((0, 0, 0, 1, -1))
+            branches.append((sight, ("tell", max(-10 ** 12, min(10 ** 12, beside)))))
+        else:
+            branches.append((sight, ("again",)))
+    return ("look", lot, tuple(branches))

@@ -1,5 +1,6 @@
-"""All examples of the document, as it writes them; names that were set once stay set."""
+"""All examples of the document, as it writes them; names that were set once stay set. Those of README.md."""
 
+import doctest
 import os
 import unittest
 
@@ -17,6 +18,12 @@ class ExamplesTest(unittest.TestCase):
                 with self.subTest(file=file, line=line):
                     self.assertEqual(came, due)
             self.assertGreater(told, 0, file)
+
+    def test_readme(self):
+        readme = os.path.join(os.path.dirname(os.path.dirname(EXAMPLES)), "README.md")
+        failed, attempted = doctest.testfile(readme, module_relative=False)
+        self.assertEqual(failed, 0)
+        self.assertGreater(attempted, 20)
 
 
 if __name__ == "__main__":

@@ -2,6 +2,7 @@
 
 import importlib
 import inspect
+import os
 import unittest
 
 BOUNDS = {
@@ -66,6 +67,27 @@ HEADS = {
         "clock_sure(sizes, clock, word)",
     ),
     "nesting": ("nested_clock(sizes)",),
+    "readers": (
+        "reader_error(table, value)", "paths_of(reader)", "wrong_path(table, speed, reader)",
+        "filled_reader(table, speed, reader)",
+    ),
+    "lives": ("tells_in(table, reader, life)",),
+    "benches": ("bench_behind(counter, value)",),
+    "faces": (
+        "face_error(value)", "face_text(face)", "read_face(value)", "row_text(face, row)", "read_row(face, value)",
+        "look_text(face, lot, sight)", "read_look(face, value)",
+    ),
+}
+
+# For each class its file, what it is made with, its methods, and what is there to be read of an object.
+CLASSES = {
+    "Bench": (
+        "benches", "(counter)",
+        ("look(self, lot, sight)", "done(self)", "undo(self)", "redo(self)", "copy(self)", "windows(self)",
+         "sures(self)", "now(self)", "told(self, reading)", "beyond(self, reading)", "short(self, reading)"),
+        ("counter", "log", "opened", "edits", "version"),
+    ),
+    "Shell": ("shells", "()", ("say(self, line)",), ()),
 }
 
 
@@ -89,6 +111,27 @@ class InterfaceTest(unittest.TestCase):
                     self.assertEqual(function.__name__, name)
                     self.assertEqual(function.__module__, "tornreads." + file)
                     self.assertEqual(name + str(inspect.signature(function)), head)
+
+    def test_classes(self):
+        for name, (file, head, methods, fields) in CLASSES.items():
+            kind = getattr(importlib.import_module("tornreads." + file), name)
+            self.assertTrue(inspect.isclass(kind))
+            self.assertEqual((kind.__name__, kind.__module__), (name, "tornreads." + file))
+            self.assertEqual(str(inspect.signature(kind)), head)
+            for method in methods:
+                with self.subTest(name=name, method=method):
+                    function = vars(kind)[method[:method.index("(")]]
+                    self.assertTrue(inspect.isfunction(function))
+                    self.assertEqual(function.__name__ + str(inspect.signature(function)), method)
+            made = kind((2, 3)) if head != "()" else kind()
+            for field in fields:
+                self.assertIn(field, vars(made))
+
+    def test_nothing_else_stands_in_the_package(self):
+        package = importlib.import_module("tornreads")
+        files = sorted(os.listdir(os.path.dirname(package.__file__)))
+        due = [*HEADS, *[told[0] for told in CLASSES.values()], "bounds", "errors", "kinds", "__init__"]
+        self.assertEqual([file for file in files if file != "__pycache__"], sorted({name + ".py" for name in due}))
 
 
 if __name__ == "__main__":
